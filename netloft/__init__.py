@@ -1,0 +1,1 @@
+"""Netloft: nets of cords, tied by turns, drawn and joined."""

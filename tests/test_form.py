@@ -112,3 +112,50 @@ class FormTest(unittest.TestCase):
         for name, node in nodes(ast.Call):
             if isinstance(node.func, ast.Attribute):
                 self.assertIn(node.func.attr, ALLOWED_METHODS + own, f"{name}:{node.lineno}")
+
+    def test_statements_by_themselves_are_calls(self):
+        for path in modules():
+            body = ast.parse(path.read_text(encoding="utf-8")).body
+            for top in body[1:] if ast.get_docstring(ast.Module(body, [])) else body:
+                for node in ast.walk(top):
+                    if isinstance(node, ast.Expr):
+                        self.assertIsInstance(node.value, ast.Call, f"{path.name}:{node.lineno}")
+
+    def test_one_target_in_an_assignment(self):
+        for name, node in nodes(ast.Assign):
+            self.assertEqual(len(node.targets), 1, f"{name}:{node.lineno}")
+            self.assertNotIsInstance(node.targets[0], (ast.Tuple, ast.List), f"{name}:{node.lineno}")
+
+    def test_no_local_is_called_like_a_class_or_an_import_of_its_file(self):
+        for path in modules():
+            tree = ast.parse(path.read_text(encoding="utf-8"))
+            taken = [node.name for node in tree.body if isinstance(node, ast.ClassDef)]
+            for node in tree.body:
+                if isinstance(node, ast.ImportFrom):
+                    taken.extend(alias.asname or alias.name for alias in node.names)
+            for node in ast.walk(tree):
+                if not isinstance(node, ast.ClassDef):
+                    for bound in bound_names(node):
+                        self.assertNotIn(bound, taken, f"{path.name}:{node.lineno}")
+
+    def test_is_stands_beside_none_true_and_false_alone(self):
+        for name, node in nodes(ast.Compare):
+            for operator, right in zip(node.ops, node.comparators):
+                if isinstance(operator, (ast.Is, ast.IsNot)):
+                    self.assertIsInstance(right, ast.Constant, f"{name}:{node.lineno}")
+
+    def test_no_name_is_a_method_in_one_class_and_a_value_in_another(self):
+        methods = {part.name for name, node in nodes(ast.ClassDef) for part in node.body
+                   if isinstance(part, ast.FunctionDef)}
+        values = {node.attr for name, node in nodes(ast.Attribute) if isinstance(node.ctx, ast.Store)}
+        self.assertEqual(methods & values, set())
+
+    def test_sets_stand_where_they_are_asked_at_once(self):
+        allowed = set()
+        for name, node in nodes(ast.Call):
+            if isinstance(node.func, ast.Name) and node.func.id in ("len", "sorted"):
+                calls = [part for part in ast.walk(node) if isinstance(part, ast.Call)]
+                allowed.update((name, part.lineno, part.col_offset) for part in calls)
+        for name, node in nodes(ast.Call):
+            if isinstance(node.func, ast.Name) and node.func.id in ("set", "frozenset"):
+                self.assertIn((name, node.lineno, node.col_offset), allowed)

@@ -1,15 +1,9 @@
 import unittest
 
-from netloft.errors import BadText, NetError, NoMirror, NoPlace, NoTurn, Unfit, Unsound
+from netloft.errors import NoMirror, Unfit
 from netloft.hangs import mirrored, renamed, tips
 from netloft.nets import Net, alike, lifted, told
-from samples import LARGE, LONG_DYE, dark, fast, light, loose, nested
-
-REFUSALS = (BadText, Unfit, NoMirror, NoPlace, NoTurn, Unsound)
-
-
-def parts(net):
-    return (net.rack, net.splices, net.rings)
+from samples import LARGE, LONG_DYE, RefusalCase, cords, dark, fast, light, loose, nested, parts
 
 
 def spliced():
@@ -20,13 +14,6 @@ def spliced():
         (light("red", 2), dark("red", 2)),
     ]
     return Net(rack, splices, 4)
-
-
-def cords(dye, numbers):
-    rack = []
-    for number in numbers:
-        rack.extend([light(dye, number), dark(dye, number)])
-    return rack
 
 
 class NetTest(unittest.TestCase):
@@ -97,14 +84,9 @@ class NetTest(unittest.TestCase):
         self.assertEqual(Net([], [(dark("a", 1), light("a", 1))]).splices, [(dark("a", 1), light("a", 1))])
 
 
-class RefusedTest(unittest.TestCase):
+class RefusedTest(RefusalCase):
     def refuse(self, error, rack, splices=None):
-        with self.assertRaises(error) as caught:
-            Net(rack, splices)
-        self.assertIsInstance(caught.exception, NetError)
-        self.assertIsInstance(caught.exception, ValueError)
-        for other in REFUSALS:
-            self.assertEqual(isinstance(caught.exception, other), other is error)
+        self.assert_refused(error, Net, rack, splices)
 
     def test_a_tip_left_out_of_the_rack(self):
         self.refuse(Unfit, [light("a", 1)])

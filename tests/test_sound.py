@@ -194,8 +194,10 @@ class FaultTest(unittest.TestCase):
             ("", False), (" @ 1", False), ("a.1, a'1", True), ("a.1, a'1 @ 1", False), ("a.1, a'1, b.2, b'2", False),
             ("(a.1 * a'1)", False), ("(a.1 + a'1)", True), ("(a.1 + a'1) @ 1", False), (" | a.1 = a'1", False),
             ("a.1, a'2 | a'1 = a.2", True), ("(a.1 * b.2), (a'1 + b'2)", True), ("(a.1 + b.2), (a'1 + b'2)", False),
-            ("((a.1 + b.2) * a'1), b'2", False), ("((b.2 + a.1) * a'1), b'2", False), ("((a.1 + a'1) * b.2), b'2", True),
-            ("(a.1 + (b.2 * (a'1 + c.3))), b'2, c'3", False), ("(a'1 * b'2), (a.3 + b.4) | (a.1 + b.2) = (a'3 * b'4)", True),
+            ("((a.1 + b.2) * a'1), b'2", False), ("((b.2 + a.1) * a'1), b'2", False),
+            ("((a.1 + a'1) * b.2), b'2", True),
+            ("(a.1 + (b.2 * (a'1 + c.3))), b'2, c'3", False),
+            ("(a'1 * b'2), (a.3 + b.4) | (a.1 + b.2) = (a'3 * b'4)", True),
             ("(a.1 + a'1), (b.2 + b'2)", False), ("((a.1 + a'1) * (b.2 + b'2))", True),
             ("((a.1 + a'1) + (b.2 + b'2))", False),
         ]:

@@ -46,10 +46,24 @@ def numbers_in_order(net):
     return numbers
 
 
+def is_place(place, row):
+    return place >= 0 and place < len(row)
+
+
+def without(rack, places):
+    return [hang for place, hang in enumerate(rack) if place not in places]
+
+
+def renamed_rack(rack, names):
+    return [renamed(hang, names) for hang in rack]
+
+
+def renamed_splices(splices, names):
+    return [(renamed(first, names), renamed(second, names)) for first, second in splices]
+
+
 def renumbered(net, names):
-    rack = [renamed(hang, names) for hang in net.rack]
-    splices = [(renamed(first, names), renamed(second, names)) for first, second in net.splices]
-    return Net(rack, splices, net.rings)
+    return Net(renamed_rack(net.rack, names), renamed_splices(net.splices, names), net.rings)
 
 
 def told(net):

@@ -2,7 +2,7 @@
 
 from netloft.errors import NoMirror, NoTurn, Unsound
 from netloft.hangs import mirrors
-from netloft.nets import Net
+from netloft.nets import Net, is_place, without
 from netloft.points import Points
 from netloft.sound import sound
 
@@ -76,13 +76,9 @@ def work_of_two(kind, beneath, i, top, j):
 
 
 def hang_at(work, place):
-    if place < 0 or place >= len(work.rack):
+    if not is_place(place, work.rack):
         raise NoTurn("the place is not there")
     return work.rack[place]
-
-
-def without(rack, places):
-    return [hang for place, hang in enumerate(rack) if place not in places]
 
 
 # Nets that are tied side by side. Each has a row of turns of its own, since a pile lets only the top two be joined.

@@ -1,6 +1,7 @@
 """Short names for hangs, the edges of point 1, and nets and rows of turns, for the tests."""
 
 import contextlib
+import itertools
 import signal
 import unittest
 
@@ -61,6 +62,7 @@ class RefusalCase(unittest.TestCase):
     def assert_refused(self, error, call, *given):
         with self.assertRaises(error) as caught:
             call(*given)
+        self.assertIs(type(caught.exception), error)
         self.assertIsInstance(caught.exception, NetError)
         self.assertIsInstance(caught.exception, ValueError)
         for other in (BadText, Unfit, NoMirror, NoPlace, NoTurn, Unsound):
@@ -103,6 +105,12 @@ def chain_net(size, backward):
     if backward:
         rack.reverse()
     return Net(rack + [tree(fast, [dark("a", 0)] + [dark("b", size + place) for place in range(size)])])
+
+
+def row_of_cords(numbers):
+    """Each cord's dark tip is spliced with the next one's light tip; the first and the last tip are in the rack."""
+    pairs = [(dark("a", number), light("a", onward)) for number, onward in zip(numbers, numbers[1:])]
+    return Net([light("a", numbers[0]), dark("a", numbers[-1])], pairs)
 
 
 def straight_turns(hang, first):
@@ -180,10 +188,19 @@ def numbered(hang, names):
 def random_net(rng, size):
     """A net that fits, sound or not: hangs and splices of about so many tips, cords between them at random."""
     hangs = [random_hang(rng, rng.randint(1, size)) for turn in range(rng.randint(1, 2))]
-    pairs = []
-    for turn in range(rng.choice([0, 0, 1, 2])):
-        hang = random_hang(rng, rng.randint(1, 2))
-        pairs.append((hang, mirrored(hang)))
+    return net_at_random(rng, hangs, [random_hang(rng, rng.randint(1, 2)) for turn in range(rng.choice([0, 0, 1, 2]))])
+
+
+def random_spliced_net(rng, most):
+    """Likewise, of up to so many splices, with few hangs in the rack or none: ways round are often there."""
+    hangs = [random_hang(rng, rng.randint(1, 4)) for turn in range(rng.randint(0, 2))]
+    net = net_at_random(rng, hangs, [random_hang(rng, rng.randint(1, 4)) for turn in range(rng.randint(0, most))])
+    return Net(net.rack, net.splices, rng.choice([0, 0, 1, 7]))
+
+
+def net_at_random(rng, hangs, spliced):
+    """The hangs in the rack, and tips more where cords ask for them; each of the others spliced with its mirror."""
+    pairs = [(hang, mirrored(hang)) for hang in spliced]
     met = [tip for hang in hangs + [side for pair in pairs for side in pair] for tip in tips(hang)]
     for dye in ("a", "b"):
         more = met.count(light(dye, 0)) - met.count(dark(dye, 0))
@@ -204,3 +221,45 @@ def random_net(rng, size):
             return hang[:2] + (numbers[hang].pop(),)
         return (hang[0], named(hang[1]), named(hang[2]))
     return Net([named(hang) for hang in hangs], [(named(one), named(other)) for one, other in pairs])
+
+
+def trees(row):
+    """Each hang that has just these tips, from left to right."""
+    if len(row) == 1:
+        return [row[0]]
+    hangs = []
+    for place in range(1, len(row)):
+        for left, right in itertools.product(trees(row[:place]), trees(row[place:])):
+            hangs.extend([fast(left, right), loose(left, right)])
+    return hangs
+
+
+def forests(row):
+    """Each list of hangs that has just these tips, from left to right."""
+    if not row:
+        return [[]]
+    return [[hang] + rest for place in range(1, len(row) + 1)
+            for hang in trees(row[:place]) for rest in forests(row[place:])]
+
+
+def pairings(row):
+    """Each list of splices that has just these tips, from left to right."""
+    if not row:
+        return [[]]
+    return [[(one, other)] + rest for size in range(1, len(row) // 2 + 1)
+            for one in trees(row[:size]) for other in trees(row[size:2 * size]) if mirrors(one, other)
+            for rest in pairings(row[2 * size:])]
+
+
+def small_nets():
+    """Each net of one or two cords, of one dye or two, and many of three with a splice: some sound, some not."""
+    nets = []
+    for dyes in ("a", "aa", "ab", "aaa"):
+        ends = [tip(dye, number) for number, dye in enumerate(dyes) for tip in (light, dark)]
+        for row in itertools.permutations(ends):
+            # Of three cords the light tips stand in order, and not all tips in the rack: else there are too many.
+            if len(dyes) < 3 or [tip[2] for tip in row if tip[0] == "light"] == [0, 1, 2]:
+                most = min(len(row), 4)
+                nets.extend(Net(rack, pairs) for place in range(most, -1, -2)
+                            for rack in forests(list(row[:place])) for pairs in pairings(list(row[place:])))
+    return nets
